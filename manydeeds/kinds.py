@@ -99,8 +99,11 @@ class Kinds:
         self.ups_of = ups_of
         self.above_of = above_of
 
+    def has(self, word):
+        return word in self.ups_of
+
     def check(self, word):
-        if word not in self.ups_of:
+        if not self.has(word):
             raise NoKind(word)
 
     def words(self):

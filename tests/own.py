@@ -1,0 +1,121 @@
+"""Boards drawn for the tests, and an own telling of the points on them, straight from their words."""
+
+from itertools import permutations, product
+from random import Random
+
+from manydeeds.boards import Board
+from manydeeds.kinds import Kinds
+from samples import ALPHABET, under_pairs
+
+
+class Own:
+    """A board as the points tell of it, without asking the program."""
+
+    def __init__(self, rows, places, deeds):
+        self.rows = [(word, tuple(ups)) for word, ups in rows]
+        self.words = [word for word, ups in self.rows]
+        self.pairs = under_pairs(dict(self.rows))
+        self.places = places
+        self.deeds = list(deeds)
+
+    def board(self):
+        return Board(Kinds(self.rows), self.places, self.deeds)
+
+    def calls(self):
+        return list(product(self.words, repeat=self.places))
+
+    def within(self, one, other):
+        return all((low, high) in self.pairs for low, high in zip(one, other))
+
+    def fitting(self, call):
+        return [k for k, deed in enumerate(self.deeds) if self.within(call, deed)]
+
+    def nearest_of(self, numbers):
+        return [k for k in numbers
+                if not any(j != k and self.within(self.deeds[j], self.deeds[k]) for j in numbers)]
+
+    def nearest(self, call):
+        return self.nearest_of(self.fitting(call))
+
+    def told_of(self, numbers):
+        near = self.nearest_of(numbers)
+        if len(near) > 1:
+            return ("clash", near[0], near[1])
+        return ("deed", near[0]) if near else ("none",)
+
+    def told(self, call):
+        return self.told_of(self.fitting(call))
+
+    def nexts(self, call):
+        row = []
+        while True:
+            told = self.told_of([k for k in self.fitting(call) if k not in row])
+            if told[0] != "deed":
+                return (row, told)
+            row.append(told[1])
+
+    def above(self, word):
+        return [high for high in self.words if (word, high) in self.pairs]
+
+    def is_line(self, word, line):
+        return (sorted(line) == sorted(self.above(word))
+                and all((late, early) not in self.pairs
+                        for k, late in enumerate(line) for early in line[:k]))
+
+    def lines(self, word):
+        return [list(line) for line in permutations(self.above(word)) if self.is_line(word, line)]
+
+    def lineups(self, call):
+        orders = [list(order) for order in permutations(range(self.places))]
+        lines = [list(choice) for choice in product(*(self.lines(word) for word in call))]
+        return list(product(orders, lines))
+
+    def is_lineup(self, call, lineup):
+        order, lines = lineup
+        return (sorted(order) == list(range(self.places)) and len(lines) == self.places
+                and all(self.is_line(word, line) for word, line in zip(call, lines)))
+
+    def goes_ahead(self, one, other, lineup):
+        order, lines = lineup
+        for place in order:
+            mine, theirs = self.deeds[one][place], self.deeds[other][place]
+            if mine != theirs:
+                return lines[place].index(mine) < lines[place].index(theirs)
+        raise AssertionError("two deeds on the same kinds")
+
+    def ranked(self, call, lineup):
+        numbers = self.fitting(call)
+        ranks = {k: sum(self.goes_ahead(j, k, lineup) for j in numbers if j != k) for k in numbers}
+        return sorted(numbers, key=ranks.get)
+
+    def with_deed(self, call):
+        return Own(self.rows, self.places, self.deeds + [call])
+
+
+def draw_rows(random, number, most_ups=3):
+    """A book without rings, told in a drawn order."""
+    rows = []
+    for k, word in enumerate(ALPHABET[:number]):
+        ups = random.sample(ALPHABET[:k], random.randint(0, min(k, most_ups)))
+        rows.append((word, tuple(ups)))
+    random.shuffle(rows)
+    return rows
+
+
+def draw_own(random, number, places, most_deeds, most_ups=3):
+    rows = draw_rows(random, number, most_ups)
+    calls = list(product([word for word, ups in rows], repeat=places))
+    deeds = random.sample(calls, min(len(calls), random.randint(0, most_deeds)))
+    return Own(rows, places, deeds)
+
+
+def drawn(seed, turns, shapes):
+    """So many boards, of one of the shapes (kinds, places, most deeds) each, the same ones each time."""
+    random = Random(seed)
+    for turn in range(turns):
+        number, places, most_deeds = shapes[turn % len(shapes)]
+        yield draw_own(random, number, places, most_deeds)
+
+
+SHAPES = ((1, 1, 1), (4, 1, 4), (7, 1, 7), (5, 2, 8), (4, 2, 5), (3, 3, 6), (4, 3, 9), (2, 4, 4), (3, 4, 10),
+          (9, 2, 12))
