@@ -23,8 +23,8 @@ def fitting(board, call):
 
 
 def nearest_with(kinds, deeds, near, number):
-    # Of unlike deeds no two are within each other, so it is enough to hold one
-    # that fits against the nearest of those ahead of it.
+    # Whatever fits is no nearer than one of the nearest, so it is enough to hold
+    # one more deed against these.
     if any([within(kinds, deeds[kept], deeds[number]) for kept in near]):
         return near
     return [kept for kept in near if not within(kinds, deeds[number], deeds[kept])] + [number]
@@ -64,3 +64,17 @@ def nexts(board, call):
         left.remove(near[0])
         near = nearest_among(board, left)
     return (row, told_of(near))
+
+
+def all_nearest(board):
+    near_of = {}
+    for call in board.calls():
+        near_of[call] = nearest(board, call)
+    return near_of
+
+
+def all_told(board):
+    answers = {}
+    for call in board.calls():
+        answers[call] = told(board, call)
+    return answers

@@ -31,6 +31,8 @@ UNDERSCORED = {"__init__", "__eq__", "__repr__", "__str__", "__len__"}
 NOWHERE = re.compile(
     r"\b(type|typing|typing_extensions|enum|Enum|IntEnum|StrEnum|Flag|IntFlag|Generic|Protocol|ABC|ABCMeta"
     r"|namedtuple|NamedTuple|TypedDict|TYPE_CHECKING|abstractmethod)\b|dataclass|overload|contextmanager")
+WALKS = ("zip", "enumerate", "reversed", "range")
+WALKERS = ("list", "tuple", "dict", "sorted", "sum", "any", "all", "enumerate", "zip")
 SINGLES = ("None", "True", "False")
 NOT_USED = {"register", "mro", "elements", "open", "input", "version_info", "with_traceback", "add_note",
             "format", "format_map"}
@@ -39,7 +41,7 @@ NOT_USED = {"register", "mro", "elements", "open", "input", "version_info", "wit
 def faults(text):
     """A list of texts, one for each fault that is seen; `text` is the whole of a file."""
     tree = ast.parse(text)
-    found = faults_of_text(text) + faults_of_top(tree)
+    found = faults_of_text(text) + faults_of_top(tree) + faults_of_walks(tree) + faults_of_locals(tree)
     own = {node.name for node in ast.walk(tree) if isinstance(node, ast.FunctionDef)}
     for node in ast.walk(tree):
         place = getattr(node, "lineno", 0)
@@ -76,6 +78,47 @@ def faults_of_top(tree):
     for node in ast.walk(tree):
         if isinstance(node, (ast.ImportFrom, ast.ClassDef)) and node not in tree.body:
             found.append(f"row {node.lineno}: L2, L15 not at the top")
+    return found
+
+
+def is_walk(node):
+    if not isinstance(node, ast.Call):
+        return False
+    if isinstance(node.func, ast.Name):
+        return node.func.id in WALKS
+    return isinstance(node.func, ast.Attribute) and node.func.attr in ("items", "keys", "values")
+
+
+def walked_by(node):
+    """What is walked on the spot where this stands."""
+    if isinstance(node, (ast.For, ast.comprehension)):
+        return [node.iter]
+    if not isinstance(node, ast.Call) or not node.args:
+        return []
+    if isinstance(node.func, ast.Attribute):
+        return node.args if node.func.attr == "join" and isinstance(node.func.value, ast.Constant) else []
+    if isinstance(node.func, ast.Name) and node.func.id in ("min", "max"):
+        return node.args if len(node.args) == 1 else []
+    return node.args[:1] if isinstance(node.func, ast.Name) and node.func.id in WALKERS else []
+
+
+def faults_of_walks(tree):
+    walked = [part for node in ast.walk(tree) for part in walked_by(node)]
+    kept = [node for node in ast.walk(tree) if is_walk(node) and node not in walked]
+    return [f"row {node.lineno}: L23 kept" for node in kept]
+
+
+def faults_of_locals(tree):
+    tops = [node.name for node in tree.body if isinstance(node, ast.ClassDef)]
+    for node in tree.body:
+        if isinstance(node, ast.ImportFrom):
+            tops += [name.asname or name.name for name in node.names]
+    found = []
+    for node in ast.walk(tree):
+        if isinstance(node, ast.arg) and node.arg in tops:
+            found.append(f"row {node.lineno}: L15 parameter")
+        if isinstance(node, ast.Name) and isinstance(node.ctx, ast.Store) and node.id in tops:
+            found.append(f"row {node.lineno}: L15 local")
     return found
 
 

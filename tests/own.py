@@ -17,6 +17,7 @@ class Own:
         self.pairs = under_pairs(dict(self.rows))
         self.places = places
         self.deeds = list(deeds)
+        self.known = {}
 
     def board(self):
         return Board(Kinds(self.rows), self.places, self.deeds)
@@ -44,7 +45,9 @@ class Own:
         return ("deed", near[0]) if near else ("none",)
 
     def told(self, call):
-        return self.told_of(self.fitting(call))
+        if call not in self.known:
+            self.known[call] = self.told_of(self.fitting(call))
+        return self.known[call]
 
     def nexts(self, call):
         row = []
@@ -90,6 +93,56 @@ class Own:
 
     def with_deed(self, call):
         return Own(self.rows, self.places, self.deeds + [call])
+
+    def commons(self, one, other):
+        both = [low for low in self.words if (low, one) in self.pairs and (low, other) in self.pairs]
+        return [low for low in both if not any(low != high and (low, high) in self.pairs for high in both)]
+
+    def common_calls(self, one, other):
+        """Those of all calls that have a greatest common kind at each place."""
+        calls = product(self.words, repeat=len(one))
+        return [call for call in calls
+                if all(word in self.commons(*pair) for word, pair in zip(call, zip(one, other)))]
+
+    def strangers(self):
+        return [(j, k) for j, one in enumerate(self.deeds) for k, other in enumerate(self.deeds)
+                if j < k and not self.within(one, other) and not self.within(other, one)]
+
+    def even(self):
+        rows = []
+        for one, other in self.strangers():
+            for call in self.common_calls(self.deeds[one], self.deeds[other]):
+                told = self.told(call)
+                if told[0] == "clash":
+                    return ("clash", call, told[1], told[2])
+                rows.append((one, other, call, told[1]))
+        return ("even", rows)
+
+    def clashes(self):
+        return [call for call in self.calls() if self.told(call)[0] == "clash"]
+
+    def mend(self):
+        """The triples, and the board with all their deeds (of any number)."""
+        here, triples = self, []
+        while True:
+            clashing = here.clashes()
+            outermost = [call for call in clashing
+                         if not any(call != other and here.within(call, other) for other in clashing)]
+            if not outermost:
+                return triples, here
+            triples.append((outermost[0],) + here.told(outermost[0])[1:])
+            here = here.with_deed(outermost[0])
+
+    def rests(self, beginning):
+        """What is told behind a beginning, rest by rest."""
+        rests = product(self.words, repeat=self.places - len(beginning))
+        return [(rest, self.told(beginning + rest)) for rest in rests]
+
+    def row_at(self, place, word):
+        return [self.told(call) for call in self.calls() if call[place] == word]
+
+    def beginnings(self, length):
+        return list(product(self.words, repeat=length))
 
 
 def draw_rows(random, number, most_ups=3):

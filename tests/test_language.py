@@ -46,7 +46,11 @@ class WhatIsSeen(unittest.TestCase):
                 "def f(a):\n\treturn a\n", "class A:\n    b = 1\n", "class A(B, C):\n    pass\n",
                 "def f(a):\n    try:\n        a()\n    except Exception:\n        pass\n",
                 "def f(a: int):\n    return a\n", "# " + "x" * 120 + "\n", "# \u00e9\n",
-                "def f(a):\n" + "    a()\n" * 40, "def f(a):\n    return chr(a)\n"):
+                "def f(a):\n" + "    a()\n" * 40, "def f(a):\n    return chr(a)\n",
+                "def f(a):\n    b = range(a)\n    return [c for c in b]\n", "def f(a):\n    return a.items()\n",
+                "def f(a):\n    return zip([1], range(a))\n", "def f(a):\n    return list(zip([1], range(a)))\n",
+                "from manydeeds.calls import told\n\n\ndef f(told):\n    return told\n",
+                "from manydeeds.calls import told\n\n\ndef f(a):\n    told = a\n    return told\n"):
             self.assertNotEqual(faults(text), [], text)
 
 
