@@ -4,6 +4,7 @@ from itertools import permutations, product
 from random import Random
 
 from manydeeds.boards import Board
+from manydeeds.books import Book
 from manydeeds.kinds import Kinds
 from samples import ALPHABET, under_pairs
 
@@ -94,6 +95,23 @@ class Own:
     def with_deed(self, call):
         return Own(self.rows, self.places, self.deeds + [call])
 
+    def with_kind(self, word, ups):
+        return Own(self.rows + [(word, ups)], self.places, self.deeds)
+
+    def with_tie(self, one, other):
+        rows = [(word, ups + (other,) * (word == one)) for word, ups in self.rows]
+        return Own(rows, self.places, self.deeds)
+
+    def may_tie(self, one, other):
+        """Whether the tie makes a book, by point 8."""
+        ups = dict(self.rows)[one]
+        return len(ups) < 8 and other not in ups and (other, one) not in self.pairs
+
+    def changes(self, after):
+        """All calls of both that are told otherwise, each told by both."""
+        return [(call, self.told(call), after.told(call)) for call in self.calls()
+                if self.told(call) != after.told(call)]
+
     def commons(self, one, other):
         both = [low for low in self.words if (low, one) in self.pairs and (low, other) in self.pairs]
         return [low for low in both if not any(low != high and (low, high) in self.pairs for high in both)]
@@ -168,6 +186,44 @@ def drawn(seed, turns, shapes):
     for turn in range(turns):
         number, places, most_deeds = shapes[turn % len(shapes)]
         yield draw_own(random, number, places, most_deeds)
+
+
+class OwnBook:
+    """A book of names as the points tell of it: its boards, each an Own, and what their deeds make."""
+
+    def __init__(self, rows, names):
+        self.rows = [(word, tuple(ups)) for word, ups in rows]
+        self.words = [word for word, ups in self.rows]
+        self.pairs = under_pairs(dict(self.rows))
+        self.names = [(word, places, tuple(deeds)) for word, places, deeds in names]
+        self.boards = {word: Own(self.rows, places, [call for call, made in deeds])
+                       for word, places, deeds in self.names}
+        self.makes = {word: [made for call, made in deeds] for word, places, deeds in self.names}
+
+    def made(self):
+        return Book(Kinds(self.rows), self.names)
+
+
+NAMES = ("meet", "call", "give", "kind", "under", "gives", "with", "a")
+
+
+def draw_book(random, number, most_names, most_places=2, most_deeds=5):
+    rows = draw_rows(random, number)
+    words = [word for word, ups in rows]
+    names = []
+    for name in random.sample(NAMES, random.randint(0, most_names)):
+        places = random.randint(1, most_places)
+        calls = list(product(words, repeat=places))
+        chosen = random.sample(calls, min(len(calls), random.randint(0, most_deeds)))
+        names.append((name, places, tuple((call, random.choice(words)) for call in chosen)))
+    return OwnBook(rows, names)
+
+
+def drawn_books(seed, turns, **bounds):
+    """So many books of one to five kinds and none to three names, the same ones each time."""
+    random = Random(seed)
+    for turn in range(turns):
+        yield draw_book(random, turn % 5 + 1, 3, **bounds)
 
 
 SHAPES = ((1, 1, 1), (4, 1, 4), (7, 1, 7), (5, 2, 8), (4, 2, 5), (3, 3, 6), (4, 3, 9), (2, 4, 4), (3, 4, 10),
