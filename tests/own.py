@@ -203,6 +203,91 @@ class OwnBook:
     def made(self):
         return Book(Kinds(self.rows), self.names)
 
+    def below(self, word):
+        return [low for low in self.words if (low, word) in self.pairs]
+
+    def is_term(self, length, term):
+        return parts(term) <= 40 and depth(term) <= 12 and self.is_plain_term(length, term)
+
+    def is_plain_term(self, length, term):
+        if isinstance(term, int):
+            return 0 <= term < length
+        if not isinstance(term, tuple) or len(term) == 0 or not isinstance(term[0], str):
+            return False
+        if term[0] not in self.boards or len(term) - 1 != self.boards[term[0]].places:
+            return False
+        return all(self.is_plain_term(length, part) for part in term[1:])
+
+    def run(self, filling, term, spot=()):
+        """Point 37 word by word."""
+        if isinstance(term, int):
+            return ("kind", filling[term])
+        call = ()
+        for k, part in enumerate(term[1:]):
+            answer = self.run(filling, part, spot + (k,))
+            if answer[0] != "kind":
+                return answer
+            call += (answer[1],)
+        told = self.boards[term[0]].told(call)
+        if told[0] == "deed":
+            return ("kind", self.makes[term[0]][told[1]])
+        return (told[0], spot, call) + told[1:]
+
+    def smooth(self):
+        for word, board in self.boards.items():
+            even = board.even()
+            if even[0] == "clash":
+                return ("clash", word) + even[1:]
+            for one, low in enumerate(board.deeds):
+                for other, high in enumerate(board.deeds):
+                    made = (self.makes[word][one], self.makes[word][other])
+                    if one != other and board.within(low, high) and made not in self.pairs:
+                        return ("rough", word, one, other)
+        return ("smooth",)
+
+    def nearer(self, filling):
+        return list(product(*(self.below(word) for word in filling)))
+
+    def comes(self, filling, term):
+        answers = [(low, self.run(low, term)) for low in self.nearer(filling)]
+        for low, answer in answers:
+            if answer[0] != "kind":
+                return ("falls", low, answer)
+        made = {answer[1] for low, answer in answers}
+        return ("holds", [word for word in self.words if word in made])
+
+    def text(self):
+        """Point 41 word by word."""
+        rows = []
+        for word, ups in self.rows:
+            rows.append(f"kind {word} under {' '.join(ups)}" if ups else f"kind {word}")
+        for word, places, deeds in self.names:
+            rows.append(f"name {word} {places}")
+            for call, made in deeds:
+                rows.append(f"deed {word} {' '.join(call)} gives {made}")
+        return "\n".join(rows)
+
+
+def parts(term):
+    """How many numbers and tuples there are in a term (words left out)."""
+    return 1 + sum(parts(part) for part in term[1:]) if isinstance(term, tuple) else 1
+
+
+def depth(term):
+    return 1 + max([depth(part) for part in term[1:]], default=0) if isinstance(term, tuple) else 1
+
+
+def draw_term(random, book, length, deep):
+    """A term of the book, for fillings of this length, at most so deep."""
+    if deep == 1 or not book.names or random.random() < 0.3:
+        return random.randrange(length)
+    word, places, deeds = random.choice(book.names)
+    return (word,) + tuple(draw_term(random, book, length, deep - 1) for place in range(places))
+
+
+def draw_filling(random, book, length):
+    return tuple(random.choice(book.words) for thing in range(length))
+
 
 NAMES = ("meet", "call", "give", "kind", "under", "gives", "with", "a")
 

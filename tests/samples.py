@@ -1,5 +1,6 @@
 """Books of kinds that several tests ask, an own telling of the points, and a count of steps."""
 
+import inspect
 import sys
 from itertools import combinations
 
@@ -82,3 +83,14 @@ def within_steps(most, deed):
         return deed()
     finally:
         sys.settrace(before)
+
+
+def within_calls(most, deed):
+    """What deed() gives; RecursionError where more than `most` calls stand within one another for it."""
+    here = len(inspect.stack(0))
+    before = sys.getrecursionlimit()
+    sys.setrecursionlimit(here + most)
+    try:
+        return deed()
+    finally:
+        sys.setrecursionlimit(before)
